@@ -1,0 +1,1 @@
+"""The longest way through a graph, within what's known of it."""
