@@ -45,8 +45,44 @@ def told(*counts):
     return [9, len(counts), *counts]
 
 
+def box():
+    return [10]
+
+
+def bound():
+    return [11]
+
+
+def worst():
+    return [12]
+
+
+def gone():
+    return [13]
+
+
+def least():
+    return [14]
+
+
+def most(e):
+    return [15, e]
+
+
 def without(k):
     return [16, k]
+
+
+def proof():
+    return [17]
+
+
+def check(b, *numbers):
+    return [18, b, len(numbers), *numbers]
+
+
+def size():
+    return [19]
 
 
 def split(numbers):

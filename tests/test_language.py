@@ -26,6 +26,8 @@ NODES = (
     "Lambda IfExp Dict ListComp comprehension Compare Eq NotEq Lt LtE Gt GtE Is IsNot In NotIn Call keyword "
     "JoinedStr FormattedValue Attribute Subscript Slice Name Load Store List Tuple"
 ).split()
+WALKED = "zip enumerate reversed range".split()
+WALKING = "list tuple dict sorted sum any all enumerate zip".split()
 BUILTINS = set(dir(__builtins__) if not isinstance(__builtins__, dict) else __builtins__)
 
 
@@ -101,6 +103,56 @@ class Language(unittest.TestCase):
                     tops = set(bound_names(ast.Module(defining.body, [])))
                     for alias in node.names:
                         self.assertIn(alias.name, tops)
+
+    def test_no_local_is_called_like_an_import_or_a_class(self):
+        for path, text, tree in each_file():
+            taken = {node.name for node in tree.body if isinstance(node, ast.ClassDef)}
+            for node in tree.body:
+                if isinstance(node, ast.ImportFrom):
+                    taken |= {alias.name for alias in node.names}
+            for node in tree.body:
+                if isinstance(node, (ast.FunctionDef, ast.ClassDef)):
+                    for part in node.body + ([node.args] if isinstance(node, ast.FunctionDef) else []):
+                        self.assertEqual(set(bound_names(part)) & taken, set(), path.name)
+
+    def test_no_two_files_draw_from_one_another(self):
+        drawn = {}
+        for path, text, tree in each_file():
+            drawn[path.stem] = {
+                node.module.split(".")[1] for node in ast.walk(tree) if isinstance(node, ast.ImportFrom)
+            }
+        while drawn:
+            free = [name for name, others in drawn.items() if not others & set(drawn)]
+            self.assertNotEqual(free, [], drawn)
+            for name in free:
+                del drawn[name]
+
+    def test_walked_at_once(self):
+        for path, text, tree in each_file():
+            walked = []
+            for node in ast.walk(tree):
+                if isinstance(node, (ast.For, ast.comprehension)):
+                    walked.append(node.iter)
+                if isinstance(node, ast.Call) and isinstance(node.func, ast.Name) and node.func.id in WALKING:
+                    walked += node.args[:1]
+            for node in ast.walk(tree):
+                if isinstance(node, ast.Call) and isinstance(node.func, ast.Name) and node.func.id in WALKED:
+                    self.assertIn(node, walked, node.lineno)
+
+    def test_the_top_of_a_file(self):
+        for path, text, tree in each_file():
+            names = []
+            for node in tree.body:
+                if isinstance(node, ast.Assign):
+                    ast.literal_eval(node.value)
+                    names.append(node.targets[0].id)
+                elif isinstance(node, (ast.FunctionDef, ast.ClassDef)):
+                    names.append(node.name)
+                elif isinstance(node, ast.ImportFrom):
+                    names += [alias.name for alias in node.names]
+                else:
+                    self.assertIsInstance(node.value.value, str)
+            self.assertEqual(len(names), len(set(names)), path.name)
 
     def test_methods(self):
         own = set()

@@ -1,8 +1,8 @@
 """The calls on one object, read from one list of whole numbers, and their answers as one such list."""
 
+from worstways.asks import bound, box, check, gone, least, most, proof, size, without, worst
 from worstways.changes import ban, fact, graph, recost, remost, unban, unfact
-from worstways.held import Held, is_place
-from worstways.refusals import NO_SUCH_NUMBER
+from worstways.held import Held
 from worstways.ways import fits, told, way
 
 GRAPH = 0
@@ -15,7 +15,16 @@ REMOST = 6
 WAY = 7
 FITS = 8
 TOLD = 9
+BOX = 10
+BOUND = 11
+WORST = 12
+GONE = 13
+LEAST = 14
+MOST = 15
 WITHOUT = 16
+PROOF = 17
+CHECK = 18
+SIZE = 19
 
 # By a call's number: how many whole numbers stand behind it; and the calls that have a row behind these.
 NUMBERS = (0, 0, 2, 1, 1, 2, 2, 0, 0, 0, 0, 0, 0, 0, 0, 1, 1, 0, 1, 0)
@@ -38,13 +47,15 @@ def answers(calls):
 
 
 def answer_of(held, call, numbers, row):
-    if call in (GRAPH, FACT, WAY, FITS, TOLD):
+    if call == CHECK:
+        return check(held, numbers[0], row)
+    if call in WITH_ROW:
         return row_answer(held, call, row)
-    if call in (BAN, RECOST, REMOST):
+    if NUMBERS[call] == 2:
         return pair_answer(held, call, numbers[0], numbers[1])
-    if call in (UNFACT, UNBAN, WITHOUT):
+    if NUMBERS[call] == 1:
         return number_answer(held, call, numbers[0])
-    raise NotImplementedError(f"call {call} is not built yet")
+    return bare_answer(held, call)
 
 
 def row_answer(held, call, row):
@@ -67,15 +78,27 @@ def pair_answer(held, call, first, second):
     return remost(held, first, second)
 
 
-def number_answer(held, call, k):
+def number_answer(held, call, number):
     if call == UNFACT:
-        return unfact(held, k)
+        return unfact(held, number)
     if call == UNBAN:
-        return unban(held, k)
-    return without(held, k)
+        return unban(held, number)
+    if call == MOST:
+        return most(held, number)
+    return without(held, number)
 
 
-def without(held, k):
-    if not is_place(k, held.facts):
-        return [NO_SUCH_NUMBER]
-    raise NotImplementedError("without, of a fact that's there, is not built yet")
+def bare_answer(held, call):
+    if call == BOX:
+        return box(held)
+    if call == BOUND:
+        return bound(held)
+    if call == WORST:
+        return worst(held)
+    if call == GONE:
+        return gone(held)
+    if call == LEAST:
+        return least(held)
+    if call == PROOF:
+        return proof(held)
+    return size(held)

@@ -25,6 +25,20 @@ class Held:
         self.bans = []
 
 
+# The same graph and bans with other costs or facts, for a search that asks what if. The lists are shared, not
+# copied: a search only reads them.
+def held_with(held, costs, facts):
+    other = Held()
+    other.nodes = held.nodes
+    other.leaves = held.leaves
+    other.comes = held.comes
+    other.costs = costs
+    other.mosts = held.mosts
+    other.facts = facts
+    other.bans = held.bans
+    return other
+
+
 def all_between(numbers, least, greatest):
     return all([least <= number <= greatest for number in numbers])
 

@@ -67,6 +67,16 @@ def bans_not_kept(held, counts):
     return [k for k, ban in enumerate(held.bans) if counts[ban[0]] > 0 and counts[ban[1]] > 0]
 
 
+def is_let(held, counts):
+    if len(edges_above_most(held, counts)) > 0 or len(facts_not_kept(held, counts)) > 0:
+        return False
+    return len(bans_not_kept(held, counts)) == 0
+
+
+def fit_and_let(held, counts):
+    return counts_fit(held, 0, counts) and is_let(held, counts)
+
+
 # The start is the entry for counts of a whole way; for what's left of a way, the node come to so far.
 def counts_fit(held, start, counts):
     return is_balanced(held, start, counts) and all_reached(held, start, counts)
